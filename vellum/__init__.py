@@ -1,0 +1,1 @@
+"""Vellum: copies of copies, and the slips by which they part."""
