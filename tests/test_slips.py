@@ -3,18 +3,13 @@
 import itertools
 import unittest
 
-from tests.helper import VellumCase
+from tests.helper import AGAIN, CROSS, KEEP, LEAVE, VellumCase
 from vellum.errors import NoSlips, VellumError
 from vellum.slips import copy_made, slips_price, step_after, step_price
 
 # Sums of some of these tell which ones they are sums of.
 PRICES = (1, 10, 100, 1000, 10000, 100000, 1000000)
 LIKE, TURN, LOSE, ADD, TWICE, SWAP, SKIP = PRICES
-
-KEEP = ("keep",)
-LEAVE = ("lose",)
-AGAIN = ("twice",)
-CROSS = ("swap",)
 
 
 class StepAfter(VellumCase):
